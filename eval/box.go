@@ -1,16 +1,13 @@
 package eval
 
 import (
-	"slices"
-
-	"sccsettle/addr"
 	"sccsettle/api"
 	"sccsettle/value"
 )
 
 // grid is a box with the values of its cells; its rows and columns are counted from 1 on.
 type grid struct {
-	sheet sheet
+	known Values
 	box   api.Box
 }
 
@@ -24,17 +21,25 @@ func (g grid) has(row, col int) bool {
 }
 
 func (g grid) at(row, col int) api.Value {
-	return g.sheet[api.Cell{Col: g.box.From.Col + col - 1, Row: g.box.From.Row + row - 1}]
+	return g.known[api.Cell{Col: g.box.From.Col + col - 1, Row: g.box.From.Row + row - 1}]
 }
 
-// values of all cells, row by row.
-func (g grid) values() []api.Value {
-	cells, _ := addr.Cells(g.box)
-	values := make([]api.Value, len(cells))
-	for i, c := range cells {
-		values[i] = g.sheet[c]
+// values of all cells, row by row, each with its number, from 1 on.
+func (g grid) values(yield func(number int, v api.Value) bool) {
+	number := 0
+	for row := range g.rows() {
+		for col := range g.cols() {
+			number++
+			if !yield(number, g.at(row+1, col+1)) {
+				return
+			}
+		}
 	}
-	return values
+}
+
+// numbered is the value of a cell by its number.
+func (g grid) numbered(number int) api.Value {
+	return g.at((number-1)/g.cols()+1, (number-1)%g.cols()+1)
 }
 
 // ofBoxes has the functions that look into boxes.
@@ -71,11 +76,13 @@ func equalTo(v api.Value) func(other api.Value) bool {
 }
 
 func match(v api.Value, g grid) api.Value {
-	at := slices.IndexFunc(g.values(), equalTo(v))
-	if at < 0 {
-		return bad(api.BadNone)
+	isWanted := equalTo(v)
+	for at, other := range g.values {
+		if isWanted(other) {
+			return number(at)
+		}
 	}
-	return number(at + 1)
+	return bad(api.BadNone)
 }
 
 func lookup(v api.Value, g grid, col int) api.Value {
@@ -94,7 +101,7 @@ func lookup(v api.Value, g grid, col int) api.Value {
 func countIf(g grid, v api.Value) api.Value {
 	isWanted := equalTo(v)
 	many := 0
-	for _, other := range g.values() {
+	for _, other := range g.values {
 		if isWanted(other) {
 			many++
 		}
@@ -107,10 +114,9 @@ func sumIf(g grid, v api.Value, summed grid) api.Value {
 		return bad(api.BadValue)
 	}
 	isWanted := equalTo(v)
-	values := summed.values()
 	return overNumbers(sum)(func(yield func(v api.Value, boxed bool) bool) {
-		for i, other := range g.values() {
-			if isWanted(other) && !yield(values[i], true) {
+		for at, other := range g.values {
+			if isWanted(other) && !yield(summed.numbered(at), true) {
 				return
 			}
 		}

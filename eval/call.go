@@ -25,8 +25,8 @@ type function struct {
 
 // call has the arguments of a call, none of them worked out: some functions leave that be.
 type call struct {
-	sheet sheet
-	nodes []api.Node
+	values Values
+	nodes  []api.Node
 }
 
 // argument is one that is worked out, in the field that its letter asks for.
@@ -95,7 +95,7 @@ func (c call) arguments(letters string) (a []argument, wrong api.Value) {
 }
 
 // value works out an argument.
-func (c call) value(i int) api.Value { return c.sheet.workOut(c.nodes[i]) }
+func (c call) value(i int) api.Value { return c.values.Of(c.nodes[i]) }
 
 // grid is an argument that is a box; false, if it is none.
 func (c call) grid(i int) (grid, bool) {
@@ -104,5 +104,5 @@ func (c call) grid(i int) (grid, bool) {
 		return grid{}, false
 	}
 	box, err := addr.Box(n.Ref.Cell, n.To.Cell)
-	return grid{c.sheet, box}, err == nil
+	return grid{c.values, box}, err == nil
 }

@@ -51,7 +51,7 @@ func (c call) items() items {
 				}
 				continue
 			}
-			for _, v := range g.values() {
+			for _, v := range g.values {
 				if !yield(v, true) {
 					return
 				}

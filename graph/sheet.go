@@ -9,10 +9,11 @@ import (
 	"sccsettle/refs"
 )
 
-// node of a sheet: the place at which its cell stands there, and all cells that its formula looks at, also those that are none of the sheet's.
+// node of a sheet: the place at which its cell stands there, its formula, if it has one, and all cells that this looks at, also those that are none of the sheet's.
 type node struct {
-	place int
-	looks []api.Cell
+	place   int
+	formula api.Node
+	looks   []api.Cell
 }
 
 // sheet has its cells as they stand, and a node for each of them.
@@ -28,7 +29,7 @@ func sheetOf(l []api.Filled) (sheet, error) {
 	}
 	s := sheet{nodes: map[api.Cell]node{}}
 	for place, f := range l {
-		n := node{place: place}
+		n := node{place: place, formula: parsed[place]}
 		if !formula.Constant(f.Text) {
 			if n.looks, err = refs.Of(parsed[place]); err != nil {
 				return sheet{}, err

@@ -1,0 +1,59 @@
+package graph_test
+
+import (
+	"fmt"
+	"strings"
+	"testing"
+
+	"sccsettle/api"
+	"sccsettle/formula"
+	"sccsettle/graph"
+	"sccsettle/plain"
+)
+
+// planShown: the parts in turn, each cell with its place, a circle in brackets.
+func planShown(t *testing.T, l []api.Filled) string {
+	t.Helper()
+	plan, err := graph.Plan(l)
+	if err != nil {
+		t.Fatalf("Plan(%v): %v", l, err)
+	}
+	var words []string
+	for _, p := range plan {
+		var cells []string
+		for _, m := range p.Members {
+			if m.Filled != l[m.Place] {
+				t.Errorf("Plan(%v): %v stands at %d", l, m.Filled, m.Place)
+			}
+			if text, err := formula.Print(m.Formula); err == nil && text != m.Text {
+				t.Errorf("Plan(%v): %v has the formula %s", l, m.Filled, text)
+			}
+			cells = append(cells, fmt.Sprint(named(m.Cell), "@", m.Place))
+		}
+		word := strings.Join(cells, " ")
+		if p.Circular {
+			word = "(" + word + ")"
+		}
+		words = append(words, word)
+	}
+	return strings.Join(words, ", ")
+}
+
+// Plan has what Parts and Order have.
+func TestG3Plan(t *testing.T) {
+	cases := []struct{ sheet, want string }{
+		{"", ""},
+		{"A1 =B1; B1 =A1+C1; C1 1; A2 =A1", "C1@2, (A1@0 B1@1), A2@3"},
+		{"A1 =B1; B1 =C1; C1 =D1; D1 x", "D1@3, C1@2, B1@1, A1@0"},
+		{"A1 =A1; B1 =C1; C1 =SUM(A2:C2); B2 =C1", "(A1@0), (C1@2 B2@3), B1@1"},
+		{"B1 =ROWS(A1:C1); A2 =IF(TRUE,1,A2)", "(B1@0), (A2@1)"},
+	}
+	for _, c := range cases {
+		if got := planShown(t, sheet(c.sheet)); got != c.want {
+			t.Errorf("Plan(%s): %s; want %s", c.sheet, got, c.want)
+		}
+	}
+	if plan, err := graph.Plan(sheet("A1 =(")); plan != nil || plain.Told(err) != api.ErrSyntax {
+		t.Errorf("Plan of no formula: %v, %v", plan, err)
+	}
+}
