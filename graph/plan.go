@@ -2,11 +2,12 @@ package graph
 
 import "sccsettle/api"
 
-// Member of a part: a cell of the sheet, the place at which it stands there, and its formula, which is the zero node, if its text is none.
+// Member of a part: a cell of the sheet, the place at which it stands there, its formula, which is the zero node, if its text is none, and all cells that this looks at, as they stand, also those that are none of the sheet's.
 type Member struct {
 	api.Filled
 	Place   int
 	Formula api.Node
+	Looks   []api.Cell
 }
 
 // Part of a sheet, with all that is needed to work it out but values: its cells as they stand, and whether they go round.
@@ -28,7 +29,8 @@ func Plan(l []api.Filled) ([]Part, error) {
 		places := parts[i].places
 		plan[number].Circular = w.circular(places)
 		for place := range places.each {
-			m := Member{Filled: l[place], Place: place, Formula: s.nodes[l[place].Cell].formula}
+			n := s.nodes[l[place].Cell]
+			m := Member{Filled: l[place], Place: place, Formula: n.formula, Looks: n.looks}
 			plan[number].Members = append(plan[number].Members, m)
 		}
 	}

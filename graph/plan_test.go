@@ -2,6 +2,7 @@ package graph_test
 
 import (
 	"fmt"
+	"slices"
 	"strings"
 	"testing"
 
@@ -18,6 +19,10 @@ func planShown(t *testing.T, l []api.Filled) string {
 	if err != nil {
 		t.Fatalf("Plan(%v): %v", l, err)
 	}
+	links, err := graph.Links(l)
+	if err != nil {
+		t.Fatalf("Links(%v): %v", l, err)
+	}
 	var words []string
 	for _, p := range plan {
 		var cells []string
@@ -27,6 +32,9 @@ func planShown(t *testing.T, l []api.Filled) string {
 			}
 			if text, err := formula.Print(m.Formula); err == nil && text != m.Text {
 				t.Errorf("Plan(%v): %v has the formula %s", l, m.Filled, text)
+			}
+			if want := linked(links, m.Cell); !slices.Equal(m.Looks, want) {
+				t.Errorf("Plan(%v): %v looks at %s, want %s", l, m.Filled, names(m.Looks), names(want))
 			}
 			cells = append(cells, fmt.Sprint(named(m.Cell), "@", m.Place))
 		}
@@ -39,7 +47,17 @@ func planShown(t *testing.T, l []api.Filled) string {
 	return strings.Join(words, ", ")
 }
 
-// Plan has what Parts and Order have.
+// linked: what a cell hangs on.
+func linked(links [][2]api.Cell, c api.Cell) (on []api.Cell) {
+	for _, link := range links {
+		if link[0] == c {
+			on = append(on, link[1])
+		}
+	}
+	return on
+}
+
+// Plan has what Parts, Order and Links have.
 func TestG3Plan(t *testing.T) {
 	cases := []struct{ sheet, want string }{
 		{"", ""},
