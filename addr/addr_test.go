@@ -1,6 +1,7 @@
 package addr_test
 
 import (
+	"cmp"
 	"errors"
 	"fmt"
 	"math"
@@ -149,6 +150,9 @@ func TestA1Less(t *testing.T) {
 		for _, j := range []int{0, i - 27, i - 26, i - 25, i - 1, i, i + 1, i + 25, i + 26, i + 27, len(all) - 1} {
 			if j >= 0 && j < len(all) && addr.Less(a, all[j]) != (i < j) {
 				t.Errorf("Less(%v, %v) = %v", a, all[j], i >= j)
+			}
+			if j >= 0 && j < len(all) && addr.Compare(a, all[j]) != cmp.Compare(i, j) {
+				t.Errorf("Compare(%v, %v) = %v", a, all[j], addr.Compare(a, all[j]))
 			}
 		}
 	}

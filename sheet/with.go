@@ -8,42 +8,39 @@ import (
 	"sccsettle/graph"
 )
 
-// with is a list in which a cell has a text; if that is empty, one without the cell. The list that is handed in stays as it is, so that a Set that is refused has changed nothing.
-func with(l []api.Filled, c api.Cell, text string) ([]api.Filled, error) {
-	if err := check(c, text); err != nil {
-		return nil, err
-	}
-	place, is := slices.BinarySearchFunc(l, c, func(f api.Filled, c api.Cell) int {
-		return asTheyStand(f.Cell, c)
-	})
-	next := slices.Clone(l)
-	if is {
-		next = slices.Delete(next, place, place+1)
-	}
-	if text != "" {
-		next = slices.Insert(next, place, api.Filled{Cell: c, Text: text})
-	}
-	if len(next) > api.MaxCells {
-		return nil, api.ErrFull
-	}
-	return next, nil
-}
-
-// check tells what is wrong with a cell and its text, whatever else the sheet has.
-func check(c api.Cell, text string) error {
+// Check tells what is wrong with a text that a cell is to have, whatever else the sheet has; it may be empty.
+func Check(c api.Cell, text string) error {
 	if text == "" {
 		return addr.Check(c)
 	}
 	return graph.Check([]api.Filled{{Cell: c, Text: text}})
 }
 
-// asTheyStand is below 0, if a cell stands ahead of another one, and 0, if they are one.
-func asTheyStand(a, b api.Cell) int {
-	switch {
-	case addr.Less(a, b):
-		return -1
-	case addr.Less(b, a):
-		return 1
+// With is a sheet in which some cells have other texts; those with an empty one are none of it. Both lists have their cells as they stand. The sheet that is handed in stays as it is, so that nothing is changed as long as it may be refused still: whether there are too many cells then is the caller's to ask.
+func With(l, over []api.Filled) []api.Filled {
+	next := make([]api.Filled, 0, len(l)+len(over))
+	for _, f := range over {
+		for len(l) > 0 && addr.Less(l[0].Cell, f.Cell) {
+			next = append(next, l[0])
+			l = l[1:]
+		}
+		if len(l) > 0 && l[0].Cell == f.Cell {
+			l = l[1:]
+		}
+		if f.Text != "" {
+			next = append(next, f)
+		}
 	}
-	return 0
+	return append(next, l...)
+}
+
+// Text is that of a cell of a sheet; empty, if it is none of it.
+func Text(l []api.Filled, c api.Cell) string {
+	place, is := slices.BinarySearchFunc(l, c, func(f api.Filled, c api.Cell) int {
+		return addr.Compare(f.Cell, c)
+	})
+	if !is {
+		return ""
+	}
+	return l[place].Text
 }
