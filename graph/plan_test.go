@@ -75,3 +75,23 @@ func TestG3Plan(t *testing.T) {
 		t.Errorf("Plan of no formula: %v, %v", plan, err)
 	}
 }
+
+// Formulas stand at the places of their cells, and say of a sheet what Check says.
+func TestG1Formulas(t *testing.T) {
+	l := sheet("A1 1; B1 =A1+1; C1 #REF!; A2 =SUM(A1:B1)")
+	formulas, err := graph.Formulas(l)
+	if err != nil || len(formulas) != len(l) {
+		t.Fatalf("Formulas(%v): %v, %v", l, formulas, err)
+	}
+	for i, f := range l {
+		text, err := formula.Print(formulas[i])
+		if formula.Constant(f.Text) && formulas[i].Kind != 0 || !formula.Constant(f.Text) && (err != nil || text != f.Text) {
+			t.Errorf("Formulas(%v): %v has %v", l, f, formulas[i])
+		}
+	}
+	for _, wrong := range []string{"A1 ", "A1 =(", "B1 1; A1 1"} {
+		if formulas, err := graph.Formulas(sheet(wrong)); formulas != nil || err == nil || err != graph.Check(sheet(wrong)) {
+			t.Errorf("Formulas(%s): %v, %v", wrong, formulas, err)
+		}
+	}
+}

@@ -23,7 +23,7 @@ type sheet struct {
 }
 
 func sheetOf(l []api.Filled) (sheet, error) {
-	parsed, err := formulas(l)
+	parsed, err := Formulas(l)
 	if err != nil {
 		return sheet{}, err
 	}
@@ -41,8 +41,8 @@ func sheetOf(l []api.Filled) (sheet, error) {
 	return s, nil
 }
 
-// formulas are those of the cells of a sheet, at their places; a cell without one has the zero node there.
-func formulas(l []api.Filled) ([]api.Node, error) {
+// Formulas are those of the cells of a sheet, at their places; a cell without one has the zero node there. What is wrong with the sheet is told as Check tells it.
+func Formulas(l []api.Filled) ([]api.Node, error) {
 	if len(l) > api.MaxCells {
 		return nil, api.ErrFull
 	}

@@ -27,14 +27,20 @@ func linesOf(row bool) lines {
 	}
 }
 
-func checkLines(n api.Node, l lines, at, many int) error {
-	if err := formula.Check(n); err != nil {
-		return err
-	}
-	if at < 1 || at > l.count || many < 0 || many > l.count {
+// CheckLines tells whether so many rows, or columns, may come in ahead of the one numbered at, or go from it on, whatever formulas there are.
+func CheckLines(row bool, at, many int) error {
+	count := linesOf(row).count
+	if at < 1 || at > count || many < 0 || many > count {
 		return api.ErrRange
 	}
 	return nil
+}
+
+func checkWithLines(n api.Node, row bool, at, many int) error {
+	if err := formula.Check(n); err != nil {
+		return err
+	}
+	return CheckLines(row, at, many)
 }
 
 // insertion makes room ahead of the line numbered at.

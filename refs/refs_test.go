@@ -326,6 +326,9 @@ func TestR3Range(t *testing.T) {
 				what := fmt.Sprint(row, at, many)
 				in, errIn := refs.Inserted(n, row, at, many)
 				out, errOut := refs.Deleted(n, row, at, many)
+				if err := refs.CheckLines(row, at, many); plain.Told(err) != plain.Told(errIn) {
+					t.Errorf("%s: CheckLines %v, Inserted %v", what, err, errIn)
+				}
 				if at < 1 || at > most || many < 0 || many > most {
 					wantErr(t, "Inserted "+what, in, errIn, api.ErrRange)
 					wantErr(t, "Deleted "+what, out, errOut, api.ErrRange)
