@@ -732,3 +732,42 @@ func TestF3LeavesBe(t *testing.T) {
 		t.Errorf("what was written into one answer is seen in another: %s, %s", tree(n), tree(again))
 	}
 }
+
+// TestRewrite: a text stays, if its formula does, however it is written; else the new one is printed.
+func TestRewrite(t *testing.T) {
+	long := quote(strings.Repeat("x", api.MaxText))
+	same := func(n api.Node) (api.Node, error) { return n, nil }
+	to := func(n api.Node) func(api.Node) (api.Node, error) {
+		return func(api.Node) (api.Node, error) { return n, nil }
+	}
+	refuse := func(api.Node) (api.Node, error) { return number(1), api.ErrOrder }
+	for _, c := range []struct {
+		text   string
+		change func(api.Node) (api.Node, error)
+		want   string
+		err    api.Errno
+	}{
+		{"= ( A1 ) ", same, "= ( A1 ) ", api.OK},
+		{"=A1", same, "=A1", api.OK},
+		{"= ( A1 ) ", to(ref(cell(1, 1))), "= ( A1 ) ", api.OK},
+		{"= ( A1 ) ", to(ref(cell(2, 1))), "=B1", api.OK},
+		{"=A1", to(number(7)), "=7", api.OK},
+		{"=A1", to(long), "", api.ErrFull},
+		{"=A1", to(api.Node{}), "", api.ErrSyntax},
+		{"=A1", refuse, "", api.ErrOrder},
+		{"A1", refuse, "A1", api.OK},
+		{" =A1", to(number(7)), " =A1", api.OK},
+		{"", to(number(7)), "", api.OK},
+	} {
+		n, _, err := formula.Parse(c.text)
+		if err != nil && !formula.Constant(c.text) {
+			t.Fatal(err)
+		}
+		if got, err := formula.Rewrite(c.text, n, c.change); got != c.want || plain.Told(err) != c.err {
+			t.Errorf("Rewrite(%q): %q, %v; want %q, %v", c.text, got, err, c.want, c.err)
+		}
+	}
+	if got, err := formula.Rewrite("=A1", api.Node{}, same); got != "" || plain.Told(err) != api.ErrSyntax {
+		t.Errorf("Rewrite of no node: %q, %v", got, err)
+	}
+}

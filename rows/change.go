@@ -37,36 +37,12 @@ func changed(l []api.Filled, row bool, at, many int, c change) ([]api.Filled, er
 		if addr.Check(f.Cell) != nil {
 			return nil, api.ErrFull
 		}
-		if f.Text, err = c.text(f.Text, formulas[i]); err != nil {
+		if f.Text, err = formula.Rewrite(f.Text, formulas[i], c.node); err != nil {
 			return nil, err
 		}
 		next = append(next, f)
 	}
 	return next, nil
-}
-
-// text is that of a cell behind the change. The node is its formula, if it has one.
-func (c change) text(text string, n api.Node) (string, error) {
-	if formula.Constant(text) {
-		return text, nil
-	}
-	next, err := c.node(n)
-	if err != nil {
-		return "", err
-	}
-	was, err := formula.Print(n)
-	if err != nil {
-		return "", err
-	}
-	now, err := formula.Print(next)
-	if err != nil {
-		return "", err
-	}
-	// Held against each other as they are printed: what is printed is read as it was, so that another formula has another text.
-	if now == was {
-		return text, nil
-	}
-	return now, nil
 }
 
 // lineOf is the number of the row, or of the column, that a cell stands in.
