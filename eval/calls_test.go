@@ -7,6 +7,7 @@ import (
 	"testing"
 
 	"sccsettle/api"
+	"sccsettle/eval"
 )
 
 const (
@@ -98,6 +99,21 @@ func TestE2Bounds(t *testing.T) {
 		{`=MAX(A1:C2)`, number(math.MaxInt)},
 		{`=MIN(A1:C2)`, number(math.MinInt)},
 	})
+}
+
+// TestE2Sum: Sum of values is what SUM of a box makes of them, row by row.
+func TestE2Sum(t *testing.T) {
+	for _, l := range [][]api.Value{
+		nil, {number(3)}, {number(3), yes, text("7"), blank, number(-5)}, {badRef, badNum}, {number(1), badNum, badRef},
+		{number(math.MaxInt), number(1), number(-1)}, {number(math.MaxInt), number(-1), number(1)}, {number(math.MinInt), number(-1)},
+		{number(math.MaxInt), number(1), badDiv}, {text("x")},
+	} {
+		var cells []api.Shown
+		for i, v := range l {
+			cells = append(cells, api.Shown{Cell: api.Cell{Col: 1 + i%2, Row: 1 + i/2}, Value: v})
+		}
+		wantRows(t, cells, []row{{`=SUM(A1:B3)`, eval.Sum(l)}})
+	}
 }
 
 func TestE2Counts(t *testing.T) {

@@ -8,6 +8,17 @@ import (
 	"sccsettle/value"
 )
 
+// Sum is SUM of values that stand in a box, row by row; it is asked of what Check of a value lets through.
+func Sum(l []api.Value) api.Value {
+	return overNumbers(sum)(func(yield func(v api.Value, boxed bool) bool) {
+		for _, v := range l {
+			if !yield(v, true) {
+				return
+			}
+		}
+	})
+}
+
 // items are values, each with whether it stands in a box.
 type items = iter.Seq2[api.Value, bool]
 

@@ -211,6 +211,21 @@ func TestT1Columns(t *testing.T) {
 	}
 }
 
+func TestT1HasColumn(t *testing.T) {
+	for _, c := range []struct {
+		rows [][]api.Value
+		wide int
+	}{
+		{nil, 12}, {[][]api.Value{}, 12}, {table(" ; "), 0}, {table("1; 2"), 1}, {table("1 2 3"), 3}, {sized(60, 12), 12},
+	} {
+		for _, col := range []int{math.MinInt, -1, 0, 1, 2, 3, 4, 11, 12, 13, math.MaxInt} {
+			if has := sort.HasColumn(c.rows, col); has != (col >= 0 && col < c.wide) {
+				t.Errorf("HasColumn of %.90v, %d: %v", c.rows, col, has)
+			}
+		}
+	}
+}
+
 // A table without rows has as many columns as there may be, and nothing in order.
 func TestT1NoRows(t *testing.T) {
 	for _, rows := range [][][]api.Value{nil, {}} {

@@ -44,19 +44,20 @@ func checkWith(rows [][]api.Value, cols ...int) error {
 		return api.ErrFull
 	}
 	for _, col := range cols {
-		if col < 0 || col >= wide(rows) {
+		if !HasColumn(rows, col) {
 			return api.ErrRange
 		}
 	}
 	return nil
 }
 
-// wide is how many columns a table has; one without rows may come to have as many as there can be.
-func wide(rows [][]api.Value) int {
-	if len(rows) == 0 {
-		return api.MaxWide
+// HasColumn tells whether a table, which Check lets through, has a column; one without rows may come to have as many as there can be.
+func HasColumn(rows [][]api.Value, col int) bool {
+	wide := api.MaxWide
+	if len(rows) > 0 {
+		wide = len(rows[0])
 	}
-	return len(rows[0])
+	return 0 <= col && col < wide
 }
 
 func columnsOf(keys []api.Key) []int {
