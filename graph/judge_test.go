@@ -9,6 +9,7 @@ import (
 	"testing"
 
 	"sccsettle/api"
+	"sccsettle/graph"
 )
 
 // judge reckons by names alone: whom a cell looks at is what was drawn for it, not what was read from its text.
@@ -173,6 +174,14 @@ func drawnLook(r *rand.Rand, names []string) (string, []string) {
 	return "+" + a, []string{a}
 }
 
+// needed: the parts of a plan that are left, by their first cells.
+func (j judge) needed(plan []graph.Part, name string) string {
+	return firsts(slices.DeleteFunc(plan, func(p graph.Part) bool {
+		first := named(p.Members[0].Cell)
+		return first != name && !j.hangsOn(name, first)
+	}))
+}
+
 func TestJudged(t *testing.T) {
 	r := rand.New(rand.NewPCG(6, 1))
 	circular := 0
@@ -202,6 +211,9 @@ func TestJudged(t *testing.T) {
 			}
 			if got, want := hangsShown(t, l, at(name)), j.hangs(name); got != want {
 				t.Fatalf("Hangs(%v; %s) = %s, want %s", l, name, got, want)
+			}
+			if got, want := firsts(graph.Needed(planned(t, l), at(name))), j.needed(planned(t, l), name); got != want {
+				t.Fatalf("Needed(%v; %s) = %s, want %s", l, name, got, want)
 			}
 		}
 	}

@@ -15,10 +15,7 @@ import (
 // planShown: the parts in turn, each cell with its place, a circle in brackets.
 func planShown(t *testing.T, l []api.Filled) string {
 	t.Helper()
-	plan, err := graph.Plan(l)
-	if err != nil {
-		t.Fatalf("Plan(%v): %v", l, err)
-	}
+	plan := planned(t, l)
 	links, err := graph.Links(l)
 	if err != nil {
 		t.Fatalf("Links(%v): %v", l, err)
@@ -73,6 +70,53 @@ func TestG3Plan(t *testing.T) {
 	}
 	if plan, err := graph.Plan(sheet("A1 =(")); plan != nil || plain.Told(err) != api.ErrSyntax {
 		t.Errorf("Plan of no formula: %v, %v", plan, err)
+	}
+}
+
+// planned: the plan of a sheet that has nothing wrong.
+func planned(t *testing.T, l []api.Filled) []graph.Part {
+	t.Helper()
+	plan, err := graph.Plan(l)
+	if err != nil {
+		t.Fatalf("Plan(%v): %v", l, err)
+	}
+	return plan
+}
+
+// firsts: parts in turn, by their first cells.
+func firsts(parts []graph.Part) string {
+	var cells []api.Cell
+	for _, p := range parts {
+		cells = append(cells, p.Members[0].Cell)
+	}
+	return names(cells)
+}
+
+// Needed leaves out what a cell does not come to hang on, and stays in the Order.
+func TestG3Needed(t *testing.T) {
+	const round = "A1 =B1; B1 =A1+C1; C1 1; D1 =A1; E1 =C1; A2 =D1+E1; B2 7"
+	cases := []struct{ sheet, cell, want string }{
+		{"", "A1", ""},
+		{"A1 1; B1 =A1", "A1", "A1"},
+		{"A1 1; B1 =A1", "B1", "A1 B1"},
+		{"A1 1; B1 =A1", "C1", ""},
+		{"A1 =B1; B1 =C1; C1 =D1; D1 x", "B1", "D1 C1 B1"},
+		{"A1 =Z9; B1 =Z9", "A1", "A1"},
+		{"A1 =SUM(B1:C2); B1 1; D1 2; E1 3; C2 =D1", "A1", "B1 D1 C2 A1"},
+		{round, "A1", "C1 A1"},
+		{round, "B1", "C1 A1"},
+		{round, "C1", "C1"},
+		{round, "A2", "C1 A1 D1 E1 A2"},
+		{round, "E1", "C1 E1"},
+		{round, "B2", "B2"},
+	}
+	for _, c := range cases {
+		if got := firsts(graph.Needed(planned(t, sheet(c.sheet)), at(c.cell))); got != c.want {
+			t.Errorf("Needed of %s, %s: %s; want %s", c.sheet, c.cell, got, c.want)
+		}
+	}
+	if got := graph.Needed(nil, api.Cell{}); len(got) != 0 {
+		t.Errorf("Needed of nothing: %v", got)
 	}
 }
 
