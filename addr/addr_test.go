@@ -261,8 +261,10 @@ func TestA2Cells(t *testing.T) {
 	for _, from := range corners {
 		for _, to := range corners {
 			got, err := addr.Cells(api.Box{From: from, To: to})
+			lawful := addr.CheckBox(api.Box{From: from, To: to})
 			if from.Col > to.Col || from.Row > to.Row {
 				wantErr(t, fmt.Sprint("Cells ", from, to), err, api.ErrRange)
+				wantErr(t, fmt.Sprint("CheckBox ", from, to), lawful, api.ErrRange)
 				if got != nil {
 					t.Errorf("Cells(%v, %v) = %v beside its error", from, to, got)
 				}
@@ -271,8 +273,13 @@ func TestA2Cells(t *testing.T) {
 			want := slices.DeleteFunc(slices.Clone(all), func(c api.Cell) bool {
 				return c.Col < from.Col || c.Col > to.Col || c.Row < from.Row || c.Row > to.Row
 			})
-			if !slices.Equal(got, want) || err != nil {
-				t.Errorf("Cells(%v, %v) = %v, %v, want %v", from, to, got, err, want)
+			if !slices.Equal(got, want) || err != nil || lawful != nil {
+				t.Errorf("Cells(%v, %v) = %v, %v, %v, want %v", from, to, got, err, lawful, want)
+			}
+			for _, c := range append(all, noCells...) {
+				if addr.Within(c, api.Box{From: from, To: to}) != slices.Contains(want, c) {
+					t.Errorf("Within(%v, %v to %v) is otherwise than Cells", c, from, to)
+				}
 			}
 			if !slices.IsSortedFunc(got, less) {
 				t.Errorf("Cells(%v, %v) do not stand as Less says", from, to)
@@ -296,6 +303,7 @@ func TestA2CellsOfNoBox(t *testing.T) {
 		for _, b := range []api.Box{{From: c, To: api.Cell{Col: 26, Row: 99}}, {From: api.Cell{Col: 1, Row: 1}, To: c}, {From: c, To: c}} {
 			got, err := addr.Cells(b)
 			wantErr(t, fmt.Sprint("Cells ", b), err, api.ErrRange)
+			wantErr(t, fmt.Sprint("CheckBox ", b), addr.CheckBox(b), api.ErrRange)
 			if got != nil {
 				t.Errorf("Cells(%v) = %v beside its error", b, got)
 			}

@@ -48,13 +48,13 @@ func carriage(from api.Box, cols, rows int) change {
 	follow := cornerwise(func(r api.Ref) (api.Ref, bool) { return carry(r, cols, rows) })
 	return change{
 		ref: func(r api.Ref) (api.Ref, bool) {
-			if !within(r.Cell, from) {
+			if !addr.Within(r.Cell, from) {
 				return r, true
 			}
 			return follow.ref(r)
 		},
 		box: func(a, b api.Ref) (api.Ref, api.Ref, bool) {
-			if !within(a.Cell, from) || !within(b.Cell, from) {
+			if !addr.Within(a.Cell, from) || !addr.Within(b.Cell, from) {
 				return a, b, true
 			}
 			return follow.box(a, b)
@@ -67,8 +67,4 @@ func carry(r api.Ref, cols, rows int) (api.Ref, bool) {
 	r.Cell.Col += cols
 	r.Cell.Row += rows
 	return r, addr.Check(r.Cell) == nil
-}
-
-func within(c api.Cell, b api.Box) bool {
-	return b.From.Col <= c.Col && c.Col <= b.To.Col && b.From.Row <= c.Row && c.Row <= b.To.Row
 }
